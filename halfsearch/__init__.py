@@ -1,0 +1,1 @@
+"""Halfsearch: binary search in lists that are not sorted."""

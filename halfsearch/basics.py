@@ -1,0 +1,74 @@
+"""What the other files share: whole numbers, the nodes of trees, and the checks of arguments.
+
+Only the functions called `check_..` examine their arguments; the others take them as checked.
+"""
+
+from halfsearch.errors import InvalidTree, InvalidValues, UnknownNode
+
+
+def is_whole(thing):
+    """Whether something is a whole number."""
+    return isinstance(thing, int) and not isinstance(thing, bool)
+
+
+def is_tree(thing):
+    """Whether something is a tree."""
+    waiting = [thing]
+    while waiting:
+        part = waiting.pop()
+        if part is not None:
+            if not isinstance(part, tuple) or len(part) != 2:
+                return False
+            waiting.append(part[1])
+            waiting.append(part[0])
+    return True
+
+
+def count_nodes(tree):
+    """The number of nodes of a tree."""
+    many = 0
+    waiting = [tree]
+    while waiting:
+        part = waiting.pop()
+        if part is not None:
+            many += 1
+            waiting.append(part[1])
+            waiting.append(part[0])
+    return many
+
+
+def paths_of(tree):
+    """The paths of all nodes, in the order of the nodes."""
+    paths = [[] for _ in range(count_nodes(tree))]
+    waiting = [(tree, 0, [])]
+    while waiting:
+        part, first, above = waiting.pop()
+        if part is not None:
+            left, right = part
+            node = first + count_nodes(left)
+            paths[node] = above
+            waiting.append((left, first, above + [(node, "left")]))
+            waiting.append((right, node + 1, above + [(node, "right")]))
+    return paths
+
+
+def check_tree(tree):
+    """Raises InvalidTree for anything but a tree."""
+    if not is_tree(tree):
+        raise InvalidTree("not a tree")
+
+
+def check_node(tree, node):
+    """Raises UnknownNode for anything but a node of the tree, which is checked before."""
+    if not is_whole(node) or not 0 <= node < count_nodes(tree):
+        raise UnknownNode(node)
+
+
+def check_values(tree, values):
+    """Raises InvalidTree for anything but a tree, then InvalidValues for anything but values of it."""
+    check_tree(tree)
+    if not isinstance(values, list) or len(values) != count_nodes(tree):
+        raise InvalidValues(None)
+    for node, value in enumerate(values):
+        if not is_whole(value):
+            raise InvalidValues(node)
