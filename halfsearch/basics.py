@@ -37,18 +37,26 @@ def count_nodes(tree):
     return many
 
 
-def paths_of(tree):
-    """The paths of all nodes, in the order of the nodes."""
-    paths = [[] for _ in range(count_nodes(tree))]
+def walk(tree):
+    """Each node with its path, a node before those of its left part and these before those of its right part."""
+    rows = []
     waiting = [(tree, 0, [])]
     while waiting:
         part, first, above = waiting.pop()
         if part is not None:
             left, right = part
             node = first + count_nodes(left)
-            paths[node] = above
-            waiting.append((left, first, above + [(node, "left")]))
+            rows.append((node, above))
             waiting.append((right, node + 1, above + [(node, "right")]))
+            waiting.append((left, first, above + [(node, "left")]))
+    return rows
+
+
+def paths_of(tree):
+    """The paths of all nodes, in the order of the nodes."""
+    paths = [[] for _ in range(count_nodes(tree))]
+    for node, above in walk(tree):
+        paths[node] = above
     return paths
 
 

@@ -4,9 +4,11 @@ Nothing here uses the program. Numbers that are looked for are Fractions, and a 
 nested triples `(node, left, right)`, so that a search needs no counting.
 """
 
+import inspect
 import random
+import unittest
 from fractions import Fraction
-from itertools import product
+from itertools import groupby, product
 
 HALF = Fraction(1, 2)
 QUARTER = Fraction(1, 4)
@@ -34,6 +36,23 @@ class Same:
 
     def __hash__(self):
         return 0
+
+
+class Case(unittest.TestCase):
+    def check_interface(self, module, told):
+        """Whether the functions have these parameters and stand in this very file."""
+        for name, parameters in told.items():
+            function = getattr(module, name)
+            self.assertEqual(str(inspect.signature(function)), parameters)
+            self.assertEqual((function.__module__, function.__name__), (module.__name__, name))
+
+    def fails(self, call, kind, field=None, told=None):
+        """Whether a call raises an error of this very class, and what its field is."""
+        with self.assertRaises(kind) as caught:
+            call()
+        self.assertIs(caught.exception.__class__, kind)
+        if field is not None:
+            self.assertIs(getattr(caught.exception, field), told)
 
 
 def numbered(tree, first=0):
@@ -78,6 +97,14 @@ def send(tree, values, number):
 def way_to(tree, node):
     """The path of a node."""
     return walk(tree, lambda at: "end" if at == node else "left" if node < at else "right")[0][:-1]
+
+
+def root_first(tree):
+    """The nodes, each before those of its left part and these before those of its right part."""
+    def visit(part):
+        return [] if part is None else [part[0]] + visit(part[1]) + visit(part[2])
+
+    return visit(numbered(tree)[0])
 
 
 def probes(values):
@@ -186,6 +213,31 @@ def all_lists(many, top):
     return [list(row) for row in product(range(top), repeat=many)]
 
 
+def all_cuts(many):
+    """All ways to cut a row of so many nodes into blocks, as lists of their lengths."""
+    if many == 0:
+        return [[]]
+    return [[first] + rest for first in range(1, many + 1) for rest in all_cuts(many - first)]
+
+
+def random_cut(rng, many, chance):
+    """The lengths of blocks, each place between two nodes being cut with this chance."""
+    row = [0]
+    for _ in range(many - 1):
+        row.append(row[-1] + (rng.random() < chance))
+    return run_lengths(row[:many])
+
+
+def run_lengths(row):
+    """The lengths of the runs of equal neighbours."""
+    return [len(list(run)) for _, run in groupby(row)]
+
+
+def spread(lengths):
+    """A list that never falls and has the same value exactly within each block."""
+    return [at for at, length in enumerate(lengths) for _ in range(length)]
+
+
 def row_left(many, below=None):
     """A tree in which each node has a left part only."""
     for _ in range(many):
@@ -257,3 +309,11 @@ def samples():
     for tree in shaped_trees(64)[:2] + [uneven(64), random_tree(rng, 64), row_left(10, row_right(10))]:
         pairs.extend((tree, row) for row in shaped_lists(rng, numbered(tree)[1]))
     return pairs
+
+
+def larger_trees(rng):
+    """Trees of every shape with 5 to 64 nodes, some of them of 20 levels."""
+    trees = [tree for many in (5, 7, 8, 12, 19) for tree in shaped_trees(many)]
+    trees.extend(random_tree(rng, many) for many in range(6, 65, 4))
+    trees.extend(halved(list(range(many)), rule) for many in (31, 63, 64) for rule in ("upper", "lower"))
+    return trees + [uneven(64), row_left(9, row_right(10, halved([0] * 45, "upper"))), zigzag(20)]

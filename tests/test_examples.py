@@ -48,6 +48,67 @@ EXAMPLES = [
 >>> insertion(tree_of(3), [1, 1, 1], 2), insertion(tree_of(3), [1, 1, 1], 2, side="right")
 (0, 3)
 """,
+    """
+>>> from halfsearch.shapes import tree_of
+>>> from halfsearch.alike import alike
+>>> alike(tree_of(3), [9, 4, 6], [4, 4, 6]), alike(tree_of(3), [9, 4, 6], [3, 4, 6])
+(('alike',), ('apart', 6))
+""",
+    """
+>>> from halfsearch.shapes import tree_of
+>>> from halfsearch.alike import breaking, count_alike
+>>> breaking(tree_of(3), [9, 4, 6], [5, 10, 6]), count_alike(tree_of(3), [9, 4, 6], 0, 9)
+([0, 1], 6)
+""",
+    """
+>>> from halfsearch.shapes import tree_of
+>>> from halfsearch.alike import representative
+>>> values = [5, 2, 9, 4, 1, 7, 6]
+>>> representative(tree_of(7), values)
+[2, 2, 4, 4, 4, 7, 7]
+""",
+    """
+>>> from halfsearch.shapes import tree_of
+>>> from halfsearch.patterns import blocks, pattern_of
+>>> pattern_of(tree_of(7), [1, 4, 2]), blocks(tree_of(2), ["high", "found"])
+(['found', 'high', 'dead', 'found', 'low', 'found', 'low'], [2])
+""",
+    """
+>>> from halfsearch.shapes import tree_of
+>>> from halfsearch.patterns import count_patterns
+>>> count_patterns(tree_of(3))
+4
+""",
+    """
+>>> from halfsearch.shapes import tree_of
+>>> from halfsearch.patterns import list_for
+>>> list_for(tree_of(2), ["high", "found"])
+[1, 0]
+""",
+    """
+>>> from halfsearch.shapes import tree_of
+>>> from halfsearch.chances import chance_found
+>>> chance_found(tree_of(7), 0), chance_found(tree_of(7), 2)
+((1, 3), (1, 6))
+""",
+    """
+>>> from halfsearch.shapes import tree_of
+>>> from halfsearch.chances import average_found
+>>> average_found(tree_of(7)), average_found(tree_of(2))
+((3, 1), (3, 2))
+""",
+    """
+>>> from halfsearch.shapes import tree_of
+>>> from halfsearch.chances import count_found
+>>> count_found(tree_of(3))
+[0, 1, 4, 1]
+""",
+    """
+>>> from halfsearch.shapes import tree_of
+>>> from halfsearch.chances import count_labels
+>>> count_labels(tree_of(3), ["high", "found", "found"])
+2
+""",
 ]
 
 

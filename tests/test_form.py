@@ -28,7 +28,13 @@ METHODS = set("""
     isprintable add discard sort __init__
 """.split())
 
-LIBRARY = {"heapq", "math", "itertools", "collections"}
+LIBRARY = {
+    "heapq": {"heappush", "heappop", "heapify", "heapreplace", "heappushpop"},
+    "math": {"gcd", "lcm", "isqrt", "comb", "perm", "factorial"},
+    "itertools": {"product", "combinations", "permutations", "chain", "accumulate", "pairwise", "islice",
+                  "zip_longest"},
+    "collections": {"defaultdict", "deque"},
+}
 MODULE_LEVEL = (ast.ImportFrom, ast.FunctionDef, ast.ClassDef, ast.Assign)
 NOT_ALLOWED = (ast.AsyncFunctionDef, ast.AsyncFor, ast.AsyncWith, ast.Await, ast.Div, ast.MatMult, ast.Import,
                ast.Global, ast.TryStar, ast.AnnAssign)
@@ -87,6 +93,24 @@ class FormTest(unittest.TestCase):
             self.assertTrue(leaves, "files import from each other")
             for name in leaves:
                 del told[name]
+
+    def test_the_library_is_imported_by_its_words_and_only_called(self):
+        for name, node in nodes(ast.ImportFrom):
+            if node.module in LIBRARY:
+                for alias in node.names:
+                    self.assertIn(alias.name, LIBRARY[node.module], name)
+                    self.assertIsNone(alias.asname)
+                    reads = [part for part in ast.walk(TREES[name])
+                             if isinstance(part, ast.Name) and part.id == alias.name]
+                    calls = [part.func for part in ast.walk(TREES[name])
+                             if isinstance(part, ast.Call) and not part.keywords and part.func in reads]
+                    self.assertEqual(len(calls), len(reads), name)
+
+    def test_exponents_are_literals(self):
+        for name, node in nodes((ast.BinOp, ast.AugAssign)):
+            if isinstance(node.op, ast.Pow):
+                exponent = node.value if isinstance(node, ast.AugAssign) else node.right
+                self.assertIsInstance(exponent, ast.Constant, name)
 
     def test_statements_and_signs(self):
         self.assertEqual(nodes(NOT_ALLOWED), [])

@@ -1,5 +1,4 @@
 import copy
-import inspect
 import time
 import unittest
 from fractions import Fraction
@@ -32,7 +31,7 @@ def doubled(number):
     return int(2 * number)
 
 
-class InterfaceTest(unittest.TestCase):
+class InterfaceTest(helper.Case):
     def test_functions_and_their_parameters(self):
         told = {
             "find": "(tree, values, twice)",
@@ -44,10 +43,7 @@ class InterfaceTest(unittest.TestCase):
             "witness": "(tree, values, node)",
             "insertion": "(tree, values, twice, *, side='left')",
         }
-        for name, parameters in told.items():
-            function = getattr(searching, name)
-            self.assertEqual(str(inspect.signature(function)), parameters)
-            self.assertEqual(function.__module__, "halfsearch.searching")
+        self.check_interface(searching, told)
 
     def test_arguments_by_name(self):
         tree = tree_of(7)
@@ -287,14 +283,7 @@ class PromisesTest(unittest.TestCase):
                     self.assertEqual(insertion(tree, values, twice, side="right"), most)
 
 
-class WrongInputTest(unittest.TestCase):
-    def fails(self, call, kind, field=None, told=None):
-        with self.assertRaises(kind) as caught:
-            call()
-        self.assertIs(caught.exception.__class__, kind)
-        if field is not None:
-            self.assertIs(getattr(caught.exception, field), told)
-
+class WrongInputTest(helper.Case):
     def test_no_trees(self):
         for thing in helper.NO_TREES:
             for name, call in CALLS.items():

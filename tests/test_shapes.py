@@ -1,4 +1,3 @@
-import inspect
 import random
 import time
 import unittest
@@ -34,13 +33,10 @@ def nodes_with_levels(tree):
     return rows
 
 
-class InterfaceTest(unittest.TestCase):
+class InterfaceTest(helper.Case):
     def test_functions_and_their_parameters(self):
         told = {"tree_of": "(length, *, rule='upper')", "size": "(tree)", "path": "(tree, node)", "levels": "(tree)"}
-        for name, parameters in told.items():
-            function = getattr(shapes, name)
-            self.assertEqual(str(inspect.signature(function)), parameters)
-            self.assertEqual(function.__module__, "halfsearch.shapes")
+        self.check_interface(shapes, told)
 
     def test_arguments_by_name(self):
         tree = tree_of(length=7, rule="lower")
