@@ -1,4 +1,4 @@
-"""What the other files share: whole numbers, the nodes of trees, and the checks of arguments.
+"""What the other files share: whole numbers, the nodes of trees and of rows, and the checks of arguments.
 
 Only the functions called `check_..` examine their arguments; the others take them as checked.
 """
@@ -9,6 +9,29 @@ from halfsearch.errors import InvalidTree, InvalidValues, UnknownNode
 def is_whole(thing):
     """Whether something is a whole number."""
     return isinstance(thing, int) and not isinstance(thing, bool)
+
+
+def is_node(thing, many):
+    """Whether something is one of so many nodes."""
+    return is_whole(thing) and 0 <= thing < many
+
+
+def is_split(thing, nodes):
+    """Whether something is a list of lists, none of them empty, that together hold each of the nodes once.
+
+    The nodes are given in ascending order.
+    """
+    if not isinstance(thing, list):
+        return False
+    held = []
+    for row in thing:
+        if not isinstance(row, list) or len(row) == 0:
+            return False
+        for node in row:
+            if not is_whole(node):
+                return False
+            held.append(node)
+    return sorted(held) == nodes
 
 
 def is_tree(thing):
@@ -66,17 +89,29 @@ def check_tree(tree):
         raise InvalidTree("not a tree")
 
 
+def check_among(many, node):
+    """Raises UnknownNode for anything but one of so many nodes."""
+    if not is_node(node, many):
+        raise UnknownNode(node)
+
+
 def check_node(tree, node):
     """Raises UnknownNode for anything but a node of the tree, which is checked before."""
-    if not is_whole(node) or not 0 <= node < count_nodes(tree):
-        raise UnknownNode(node)
+    check_among(count_nodes(tree), node)
+
+
+def check_row(row):
+    """Raises InvalidValues for anything but a list of whole numbers."""
+    if not isinstance(row, list):
+        raise InvalidValues(None)
+    for node, value in enumerate(row):
+        if not is_whole(value):
+            raise InvalidValues(node)
 
 
 def check_values(tree, values):
     """Raises InvalidTree for anything but a tree, then InvalidValues for anything but values of it."""
     check_tree(tree)
-    if not isinstance(values, list) or len(values) != count_nodes(tree):
+    if isinstance(values, list) and len(values) != count_nodes(tree):
         raise InvalidValues(None)
-    for node, value in enumerate(values):
-        if not is_whole(value):
-            raise InvalidValues(node)
+    check_row(values)

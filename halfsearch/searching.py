@@ -82,6 +82,19 @@ def gap_step(tree, values, low, high):
     return ("gap", low, high, ending[1])
 
 
+def steps_of(tree, values):
+    """The step table, for a tree and values that are checked."""
+    table = []
+    low = None
+    for node in found_of(tree, values):
+        high = values[node]
+        table.append(gap_step(tree, values, low, high))
+        table.append(("found", high, node))
+        low = high
+    table.append(gap_step(tree, values, low, None))
+    return table
+
+
 def find(tree, values, twice):
     """How the search for a number ends: ("found", node) or ("gap", gap)."""
     check_values(tree, values)
@@ -118,15 +131,7 @@ def found(tree, values):
 def steps(tree, values):
     """The step table: where the searches for all numbers end, in rising order of the numbers."""
     check_values(tree, values)
-    table = []
-    low = None
-    for node in found_of(tree, values):
-        high = values[node]
-        table.append(gap_step(tree, values, low, high))
-        table.append(("found", high, node))
-        low = high
-    table.append(gap_step(tree, values, low, None))
-    return table
+    return steps_of(tree, values)
 
 
 def witness(tree, values, node):

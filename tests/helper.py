@@ -4,6 +4,7 @@ Nothing here uses the program. Numbers that are looked for are Fractions, and a 
 nested triples `(node, left, right)`, so that a search needs no counting.
 """
 
+import copy
 import inspect
 import random
 import unittest
@@ -26,6 +27,14 @@ NO_NUMBERS = [True, False, None, "", "1", 1.0, 0.0, b"1", [], [1], (), (1,), {},
 
 NO_NAMES = [None, 0, 1, True, False, "", "Left", "UPPER", "middle", "left ", " upper", b"left", b"upper", 1.5, [],
             ["left"], ("upper",), ("left",), {}, {"left": 1}, {"upper"}, object(), str, 10 ** 5000]
+
+NO_LISTS = [None, 3, True, "", "012", b"012", (), (0, 1, 2), {}, {0: 1, 1: 2}, {0, 1}, range(3), iter([0, 1]), object()]
+
+# What stands for anything made of tuples, lists, dicts, strings, whole numbers, booleans and None.
+ANY_THINGS = [None, True, False, 0, 1, -1, GREAT, 10 ** 5000, "", "no", "[]", (), (0,), ((), ()), (None, None), {},
+              {0: 0}, {"0": [0]}, [None], [True], [False], ["0"], [""], [()], [(0,)], [{}], [[None]], [[True]],
+              [[False]], [["0"]], [[()]], [[[]]], [[[0]]], [[{}]], [[0], 1], [[0], None], [[0], "1"], [[0], (1,)],
+              [[0], {1: 1}], [[0], [-1]], [[0], [10 ** 5000]]]
 
 
 class Same:
@@ -53,6 +62,31 @@ class Case(unittest.TestCase):
         self.assertIs(caught.exception.__class__, kind)
         if field is not None:
             self.assertIs(getattr(caught.exception, field), told)
+
+    def gives_new(self, call, *arguments):
+        """Whether a call leaves its arguments as they are, and gives an equal result of new lists again and again."""
+        kept = copy.deepcopy(arguments)
+        first = call(*arguments)
+        lists = lists_within(first)
+        self.assertEqual(len({id(row) for row in lists}), len(lists))
+        told = copy.deepcopy(first)
+        taken = {id(row) for row in lists_within(list(arguments))}
+        self.assertFalse(taken & {id(row) for row in lists})
+        for row in lists:
+            row.append("more")
+            row[0] = "other"
+        self.assertEqual(arguments, kept)
+        self.assertEqual(call(*arguments), told)
+        self.assertEqual(arguments, kept)
+
+
+def lists_within(thing):
+    """Each list in something made of lists and tuples, as often as it stands there."""
+    found = [thing] if isinstance(thing, list) else []
+    if isinstance(thing, (list, tuple)):
+        for part in thing:
+            found.extend(lists_within(part))
+    return found
 
 
 def numbered(tree, first=0):
@@ -111,6 +145,11 @@ def probes(values):
     """Every whole and half number that matters, ascending; one number where there are no values."""
     numbers = {value + shift for value in values for shift in (-HALF, Fraction(0), HALF)}
     return sorted(numbers) or [HALF]
+
+
+def found_nodes(tree, row):
+    """The nodes at whose value the search for this value ends."""
+    return {node for node in range(len(row)) if send(tree, row, row[node])[1] == ("found", node)}
 
 
 class Shown:
@@ -218,6 +257,20 @@ def all_cuts(many):
     if many == 0:
         return [[]]
     return [[first] + rest for first in range(1, many + 1) for rest in all_cuts(many - first)]
+
+
+def made_things(many):
+    """All lists of lists of nodes with at most so many in total, also nodes twice and empty lists."""
+    things = [[], [[]]]
+    for length in range(1, many + 1):
+        for nodes in product(range(many), repeat=length):
+            for lengths in all_cuts(length):
+                rest = list(nodes)
+                thing = [[rest.pop(0) for _ in range(count)] for count in lengths]
+                things.append(thing)
+                if length == many:
+                    things.append(thing + [[]])
+    return things
 
 
 def random_cut(rng, many, chance):

@@ -109,6 +109,43 @@ EXAMPLES = [
 >>> count_labels(tree_of(3), ["high", "found", "found"])
 2
 """,
+    """
+>>> from halfsearch.shapes import tree_of
+>>> from halfsearch.wishes import required
+>>> required(tree_of(7), [0, 4])
+[(0, 1), (0, 3), (0, 4), (0, 5), (3, 4), (3, 5), (4, 5)]
+""",
+    """
+>>> from halfsearch.shapes import tree_of
+>>> from halfsearch.wishes import repair
+>>> values = [5, 2, 9, 4, 1, 7, 6]
+>>> kept, chains = repair(tree_of(7), values, [0])
+>>> kept, len(chains)
+([1, 3], 2)
+""",
+    """
+>>> from halfsearch.alike import representative
+>>> from halfsearch.goals import tree_for
+>>> representative(tree_for([3, 1, 2], [1, 1, 2]), [3, 1, 2]), tree_for([3, 1, 2], [1, 2, 2])
+([1, 1, 2], 'no')
+""",
+    """
+>>> from halfsearch.goals import hidden_by
+>>> hidden_by([1, 5, 3, 9], 0), hidden_by([1, 5, 3, 9], 1)
+(None, 2)
+""",
+    """
+>>> from halfsearch.kinds import SearchList
+>>> box = SearchList(5, 2, 9)
+>>> [box.put(3), box.row, 5 in box, 9 in box, box.found]
+[2, [5, 2, 3, 9], False, True, [1, 2, 3]]
+""",
+    r"""
+>>> from halfsearch.shapes import tree_of
+>>> from halfsearch.text import format_list
+>>> format_list(tree_of(2), [3, -1])
+'0 3 high\n1 -1 found'
+""",
 ]
 
 

@@ -25,7 +25,7 @@ METHODS = set("""
     items join keys ljust lower lstrip partition pop remove replace reverse rfind rjust rpartition rsplit rstrip
     setdefault split splitlines startswith strip update upper values zfill bit_length title capitalize swapcase
     casefold center expandtabs removeprefix removesuffix rindex isascii isdecimal isnumeric istitle isidentifier
-    isprintable add discard sort __init__
+    isprintable add discard __init__
 """.split())
 
 LIBRARY = {
@@ -142,6 +142,23 @@ class FormTest(unittest.TestCase):
             self.assertNotIsInstance(node.value, (float, complex), name)
             if isinstance(node.value, str):
                 self.assertNotIn("%", node.value, name)
+
+    def test_no_generator_expressions_and_lambdas(self):
+        self.assertEqual(nodes((ast.GeneratorExp, ast.Lambda)), [])
+
+    def test_classes_hold_methods_and_plain_values(self):
+        for name, node in nodes(ast.ClassDef):
+            self.assertIn(node, TREES[name].body, name)
+            self.assertEqual((node.decorator_list, node.keywords), ([], []))
+            self.assertIsNotNone(ast.get_docstring(node), name)
+            for part in node.body[1:]:
+                self.assertIsInstance(part, (ast.FunctionDef, ast.Assign), name)
+                if isinstance(part, ast.FunctionDef):
+                    self.assertLessEqual({word.id for word in part.decorator_list}, {"property", "classmethod"})
+                else:
+                    self.assertIsInstance(part.value, ast.Constant)
+            defined = [part.name for part in node.body if isinstance(part, DEFINED_NAMES)]
+            self.assertEqual(len(defined), len(set(defined)), name)
 
     def test_errors_are_created_where_they_are_raised(self):
         for name, node in nodes(ast.Raise):
