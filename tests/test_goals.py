@@ -187,7 +187,7 @@ class AgainstAllTreesTest(unittest.TestCase):
             reached, _ = plain(tuple(values))
             many = len(values)
             tried = [list(goal) for goal in sorted(reached)]
-            tried += goals[many] if many < 4 else rng.sample(goals[many], 60)
+            tried += goals[many] if many < 5 else rng.sample(goals[many], 60)
             for goal in tried:
                 tree = tree_for(values, goal)
                 counts[tuple(goal) in reached] += 1
@@ -214,7 +214,8 @@ class AgainstAllTreesTest(unittest.TestCase):
         for values in SMALL:
             if len(values) < 5:
                 made = things[len(values)]
-                for thing in rng.sample(made, min(len(made), 60)) + [most_found(values)[1]]:
+                made = made if len(values) < 4 else rng.sample(made, 200)
+                for thing in made + [most_found(values)[1]]:
                     told = is_cover(values, thing)
                     answers.add(told)
                     self.assertIs(are_rows(values, thing), told, (values, thing))

@@ -273,9 +273,9 @@ class AgainstPlainSearchTest(unittest.TestCase):
                 self.assertEqual(distance(tree, wished[::-1], one, other), plain.distance(one, other))
 
     def values_for(self, rng, many):
-        """Some of the small lists, all of them for few nodes."""
+        """All small lists; for four nodes some of them."""
         rows = helper.all_lists(many, 3)
-        return rows if many < 3 else rng.sample(rows, 12)
+        return rows if many < 4 else rng.sample(rows, 12)
 
     def test_can_keep(self):
         rng = random.Random(1)
@@ -309,8 +309,13 @@ class AgainstPlainSearchTest(unittest.TestCase):
         things = {many: helper.made_things(many) for many in range(5)}
         answers = set()
         for many, tree, wished, plain in SMALL:
-            for values in self.values_for(rng, many)[:9]:
-                for thing in rng.sample(things[many], min(40, len(things[many]))) + [repair(tree, values, wished)[1]]:
+            # All ways to put the concerned nodes into lists, and others that miss some or hold too many.
+            parted = [thing for thing in things[many]
+                      if sorted(node for row in thing for node in row) == plain.nodes and all(thing)]
+            parted = parted if many < 4 else rng.sample(parted, min(20, len(parted)))
+            for values in self.values_for(rng, many):
+                others = rng.sample(things[many], min(20, len(things[many])))
+                for thing in parted + others + [repair(tree, values, wished)[1]]:
                     told = plain.are_chains(values, thing)
                     answers.add(told)
                     self.assertIs(are_chains(tree, values, wished, thing), told, (tree, values, wished, thing))
